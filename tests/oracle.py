@@ -1,6 +1,6 @@
 """The definitions of the document told again in the plainest way: all that there is is tried out."""
 
-from itertools import product
+from itertools import permutations, product
 
 ANSWERS = ("new", "known", "clash")
 
@@ -120,3 +120,61 @@ def all_made(house, rows):
     """The list of (combination, row that it makes), for all combinations."""
     found = product(range(house[0]), repeat=len(rows))
     return [(numbers, row_of(house, rows, numbers)) for numbers in found]
+
+
+def given(house, rows):
+    """The dict from each sum that independent rows give to (number, combination)."""
+    found = {}
+    for numbers, (one, number) in all_made(house, rows):
+        assert one not in found, "the rows are not independent"
+        found[one] = (number, numbers)
+    return found
+
+
+class Led:
+    """A store that is led by the words of [2]."""
+
+    def __init__(self, house):
+        self.house, self.rows = house, ()
+
+    def do(self, deed):
+        """The answer to a deed."""
+        number, _ = given(self.house, self.rows).get(deed[1], (None, None))
+        if deed[0] == "ask":
+            return "open" if number is None else number
+        if number is None:
+            self.rows += (deed[1:],)
+            return "new"
+        return "known" if number == deed[2] else "clash"
+
+
+def ahead(what, one, other):
+    """Whether a call is AHEAD of another one, of a history or a plan."""
+    end = what[1][one][2]
+    return end is not None and end < what[1][other][1]
+
+
+def an_order(what, thing):
+    if type(thing) is not tuple or not all(type(index) is int for index in thing):
+        return False
+    if sorted(thing) != list(range(len(what[1]))):
+        return False
+    return all(thing.index(one) < thing.index(other) for one in thing for other in thing if ahead(what, one, other))
+
+
+def orders(what):
+    """All orders of a history or a plan."""
+    return [found for found in permutations(range(len(what[1]))) if an_order(what, found)]
+
+
+def walked(what, order):
+    """(answers, rows): the answer to each call, by its index, and the rows ahead of each place, and at the end."""
+    led, answers, rows = Led(what[0]), {}, [()]
+    for index in order:
+        answers[index] = led.do(what[1][index][0])
+        rows.append(led.rows)
+    return tuple(answers[index] for index in range(len(what[1]))), rows
+
+
+def a_weaving(history, thing):
+    return an_order(history, thing) and walked(history, thing)[0] == tuple(call[3] for call in history[1])

@@ -1,11 +1,16 @@
-"""The examples of the document, those that read no text; and that the package's own file is empty."""
+"""The examples of the document; and that the package's own file is empty."""
 
 import pathlib
 import unittest
 
 import freshtold
+from freshtold.calls import ahead_of, asked_calls, behind_of, is_ahead, lost_calls, new_calls, unheard_calls
+from freshtold.reader import read_history, read_plan
+from freshtold.stores import Store
 from freshtold.sums import added, are_independent, comes_to, dependence, given_by, made_by, strife_of, times, world_of
 from freshtold.texts import show_history, show_plan
+from freshtold.weavings import (answers_by, early_order, first_wrong, is_order, is_weaving, late_order, run_by,
+                                store_at)
 
 
 class TestStage1(unittest.TestCase):
@@ -28,9 +33,46 @@ class TestStage1(unittest.TestCase):
         self.assertEqual(shown, [(0, 0), None, True])
 
     def test_texts(self):
-        history = ((3, 2), ((('tell', (1, 0), 1), 0, 3, 'new'), (('ask', (1, 1)), 2, None, None)))
+        history = read_history("house 3 2\n# two calls\ntell 1 0 = 1 at 0 3 new\n ask 1  1 at 2 never -")
+        self.assertEqual(history, ((3, 2), ((('tell', (1, 0), 1), 0, 3, 'new'), (('ask', (1, 1)), 2, None, None))))
         self.assertEqual(show_history(history), 'house 3 2\ntell 1 0 = 1 at 0 3 new\nask 1 1 at 2 never -')
-        self.assertEqual(show_plan(((2, 0), ((("ask", ()), -1, 4),))), 'house 2 0\nask at -1 4')
+        self.assertEqual([show_plan(((2, 0), ((("ask", ()), -1, 4),))), read_plan("house 7 1\ntell 2 = 6 at 0 0")],
+                         ['house 2 0\nask at -1 4', ((7, 1), ((('tell', (2,), 6), 0, 0),))])
+
+
+class TestStage2(unittest.TestCase):
+    def test_stores(self):
+        store = Store((3, 2))
+        shown = [store.tell((1, 0), 1), store.tell((2, 0), 2), store.tell((2, 0), 0), store.ask((1, 1)),
+                 store.tell((1, 1), 0), store.ask((0, 2))]
+        self.assertEqual(shown, ['new', 'known', 'clash', 'open', 'new', 1])
+        shown = [store.rows(), store.reason((0, 2)), store.reason((0, 0)), store.can_hold((1, 2)),
+                 store.can_hold((1, 1))]
+        self.assertEqual(shown, [(((1, 0), 1), ((1, 1), 0)), {0: 1, 1: 2}, {}, True, False])
+
+    def history(self):
+        one, both = (1, 0), (1, 1)
+        return ((3, 2), ((("tell", one, 1), 0, 3, "new"), (("ask", both), 2, 6, None),
+                         (("tell", both, 2), 4, None, None), (("ask", one), 1, 9, 1)))
+
+    def test_calls(self):
+        history = self.history()
+        shown = [is_ahead(history, 0, 2), is_ahead(history, 0, 1), ahead_of(history, 2), behind_of(history, 0),
+                 asked_calls(history)]
+        self.assertEqual(shown, [True, False, (0,), (2,), (1, 3)])
+        self.assertEqual([new_calls(history), lost_calls(history), unheard_calls(history)], [(0,), (2,), (1,)])
+
+    def test_weavings(self):
+        history = self.history()
+        shown = [is_order(history, (1, 0, 2, 3)), is_order(history, (2, 0, 1, 3)),
+                 answers_by(history, (1, 0, 2, 3)), answers_by(history, (3, 0, 2, 1))]
+        self.assertEqual(shown, [True, False, ('new', 'open', 'new', 1), ('new', 2, 'new', 'open')])
+        whole = run_by(history, (1, 0, 2, 3))
+        shown = [is_weaving(whole, (1, 0, 3, 2)), is_weaving(whole, (0, 2, 1, 3)), first_wrong(whole, (0, 2, 1, 3)),
+                 store_at(whole, (1, 0, 3, 2), 2)]
+        self.assertEqual(shown, [True, False, 2, (((1, 0), 1),)])
+        shown = [early_order(history, 1), late_order(history, 0), early_order(history, 2)]
+        self.assertEqual(shown, [(1, 0, 3, 2), (3, 1, 0, 2), (0, 2, 3, 1)])
 
 
 class TestPackage(unittest.TestCase):

@@ -1,6 +1,7 @@
 """Values for the tests: odd ones of every kind, and all that differs from a right one in one part."""
 
 from freshtold.errors import NoCommand, NotSound, StoreError, Wrong
+from freshtold.stores import Store
 
 LONG_TEXT = "".join(chr(32 + at % 95) for at in range(2999)) + "\n"
 
@@ -17,7 +18,7 @@ def short_odd_values():
     """A few values of every kind, to stand in the place of a part."""
     return [None, True, False, 0, 1, 2, 3, 4, 5, 6, 7, 8, -1, -2, 10 ** 39, -10 ** 39, "", "0", "1", "tell", "ask",
             "new", "known", "clash", "open", "never", "-", (), [], {}, (0,), [0], (0, 0), (0, 1), (1, 0), (True,),
-            (False, 0), (None,), {0: 0}, {0: 1, 1: 0}, StoreError(), Wrong(0)]
+            (False, 0), (None,), {0: 0}, {0: 1, 1: 0}, StoreError(), Wrong(0), Store((2, 0))]
 
 
 def odd_values():
@@ -31,6 +32,7 @@ def odd_values():
         (0, (0,)), (0, (1,)), (0, (1, 2)), (0, ()), (0, [1]), (1, (0, 1)), (0, 1, 2), (0, 2, 1), (0, 0, 1), [0, 1, 2],
         tuple(range(1000)), list(range(1000)), (0,) * 2900, [[0, 1]] * 900, {at: (at, None) for at in range(700)},
         nested(20), [nested(18), nested(17)], NoCommand(), NotSound([{}, (None,)]), [StoreError()], {"at": Wrong(None)},
+        Store((2, 1)), (Store((3, 2)), ()), {"store": Store((7, 8))},
     ]
 
 
