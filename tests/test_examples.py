@@ -4,13 +4,24 @@ import pathlib
 import unittest
 
 import freshtold
+from freshtold.books import book_paper, is_book_paper, is_sound
 from freshtold.calls import ahead_of, asked_calls, behind_of, is_ahead, lost_calls, new_calls, unheard_calls
+from freshtold.claims import hold_of, holds_always, holds_in, is_hold, surely_ahead, weaving_against
+from freshtold.misfits import is_misfit, is_stuck, misfit, small_stuck, why_barred
+from freshtold.peeling import fits, is_barred, may_go, peeled, weaving_of
 from freshtold.reader import read_history, read_plan
+from freshtold.reasons import leaners, new_rows, number_of, reason_of, reasons
 from freshtold.stores import Store
 from freshtold.sums import added, are_independent, comes_to, dependence, given_by, made_by, strife_of, times, world_of
 from freshtold.texts import show_history, show_plan
 from freshtold.weavings import (answers_by, early_order, first_wrong, is_order, is_weaving, late_order, run_by,
                                 store_at)
+
+ONE, BOTH, OTHER = (1, 0), (1, 1), (0, 1)
+# The calls of most examples from stage 3 on.
+CALLS = ((("tell", ONE, 1), 0, 3, "new"), (("tell", BOTH, 2), 1, 4, "new"), (("ask", OTHER), 2, 6, 1),
+         (("ask", BOTH), 0, 9, "open"))
+HISTORY = ((3, 2), CALLS)
 
 
 class TestStage1(unittest.TestCase):
@@ -73,6 +84,67 @@ class TestStage2(unittest.TestCase):
         self.assertEqual(shown, [True, False, 2, (((1, 0), 1),)])
         shown = [early_order(history, 1), late_order(history, 0), early_order(history, 2)]
         self.assertEqual(shown, [(1, 0, 3, 2), (3, 1, 0, 2), (0, 2, 3, 1)])
+
+
+class TestStage3(unittest.TestCase):
+    def test_reasons(self):
+        shown = [new_rows(HISTORY), reason_of(HISTORY, OTHER), number_of(HISTORY, (0, 2)), reasons(HISTORY),
+                 leaners(HISTORY, 0)]
+        self.assertEqual(shown, [(((1, 0), 1), ((1, 1), 2)), {0: 2, 1: 1}, 2, ((0,), (1,), (0, 1), (1,)), (2,)])
+        self.assertEqual([is_sound(HISTORY), book_paper(HISTORY), reason_of(HISTORY, (0, 0))], [True, None, {}])
+
+    def test_books(self):
+        wrong = ((3, 2), CALLS[:2] + ((("ask", OTHER), 2, 6, 0),))
+        shown = [is_sound(wrong), book_paper(wrong), is_book_paper(wrong, ("gainsaid", 2, {1: 1, 0: 2})),
+                 is_book_paper(wrong, ("gainsaid", 2, {1: 1}))]
+        self.assertEqual(shown, [False, ('gainsaid', 2, {0: 2, 1: 1}), True, False])
+        few = ((3, 2), (CALLS[0], (("tell", BOTH, 2), 1, 4, "known")))
+        shown = [is_book_paper(few, ("without", 1, (0, 2))), is_book_paper(few, ("without", 1, (1, 0))),
+                 is_book_paper(few, ("depends", {}))]
+        self.assertEqual(shown, [True, False, False])
+        twice = ((3, 2), (CALLS[0], (("tell", (2, 0), 0), 5, 6, "new")))
+        shown = [is_sound(twice), is_book_paper(twice, ("depends", {0: 1, 1: 1})),
+                 is_book_paper(twice, ("depends", {0: 1, 1: 2}))]
+        self.assertEqual(shown, [False, True, False])
+
+
+class TestStage4(unittest.TestCase):
+    late = ((3, 2), CALLS[:3] + ((("ask", BOTH), 5, 9, "open"),))
+
+    def test_a_history_that_fits(self):
+        shown = [may_go(HISTORY, (0, 1, 2, 3)), is_barred(HISTORY, 3, (0, 1, 2, 3)), is_barred(HISTORY, 3, (0, 3)),
+                 is_barred(HISTORY, 0, (2,))]
+        self.assertEqual(shown, [(2,), True, False, True])
+        shown = [peeled(HISTORY, (0, 1, 2, 3)), weaving_of(HISTORY), fits(HISTORY), misfit(HISTORY)]
+        self.assertEqual(shown, [((2, 1, 3, 0), ()), (0, 3, 1, 2), True, None])
+
+    def test_one_that_does_not(self):
+        late = self.late
+        self.assertEqual([fits(late), peeled(late, (0, 1, 2, 3)), misfit(late), small_stuck(late)],
+                         [False, ((2,), (0, 1, 3)), ('stuck', (0, 1, 3)), (1, 3)])
+        shown = [why_barred(late, 0, (0, 1, 3)), why_barred(late, 1, (1, 2, 3)), why_barred(late, 3, (1, 3)),
+                 why_barred(late, 2, (2, 3))]
+        self.assertEqual(shown, [('ahead', 3), ('ahead', 3), ('whole', (1,)), None])
+        shown = [is_stuck(late, (1, 3)), is_stuck(late, (0, 1)), is_misfit(late, ("stuck", (1, 3))),
+                 is_misfit(HISTORY, ("stuck", ()))]
+        self.assertEqual(shown, [True, False, True, False])
+
+    def test_an_empty_sum_that_is_open(self):
+        nothing = ((2, 1), ((("ask", (0,)), 0, 1, "open"), (("tell", (1,), 1), 0, None, "new")))
+        self.assertEqual([misfit(nothing), weaving_of(((2, 0), ())), why_barred(nothing, 0, (0,))],
+                         [('stuck', (0,)), (), ('whole', ())])
+
+
+class TestStage5(unittest.TestCase):
+    def test_claims(self):
+        shown = [surely_ahead(HISTORY), holds_in((3, 1, 0, 2), (0, (1,))), holds_in((3, 1, 0, 2), (0, (1, 2)))]
+        self.assertEqual(shown, [((2,), (2,), (), (1, 2)), False, True])
+        shown = [holds_always(HISTORY, (3, (2,))), hold_of(HISTORY, (3, (2,))), is_hold(HISTORY, (3, (2,)), (1, 2, 3)),
+                 is_hold(HISTORY, (3, (2,)), (2, 3))]
+        self.assertEqual(shown, [True, (0, 1, 2, 3), True, False])
+        shown = [hold_of(HISTORY, (0, (1,))), weaving_against(HISTORY, (0, (1,))),
+                 weaving_against(HISTORY, (3, (0, 1)))]
+        self.assertEqual(shown, [None, (3, 1, 0, 2), None])
 
 
 class TestPackage(unittest.TestCase):

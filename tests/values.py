@@ -60,6 +60,19 @@ def all_near(thing):
     if type(thing) is tuple:
         for at, part in enumerate(thing):
             found += [thing[:at] + (other,) + thing[at + 1:] for other in all_near(part)]
+    if type(thing) is dict:
+        found += near_dicts(thing)
+    return found
+
+
+def near_dicts(thing):
+    """Dicts that come of one if its keys stand otherwise, or a key or a value is another one, or lacks, or is more."""
+    found = [dict(reversed(list(thing.items()))), {**thing, 99: 1}, {**thing, "0": 1}, list(thing.items())]
+    for key, worth in thing.items():
+        others = {other: thing[other] for other in thing if other != key}
+        found += [{**thing, key: other} for other in all_near(worth)] + [others]
+        for other in [None, True, False, -1, 0, 1, 2, 3, 4, 10 ** 39, "", "0", (), (0,), key + 1, str(key), (key,)]:
+            found += [{**others, other: worth}, {**thing, other: worth}]
     return found
 
 
