@@ -49,8 +49,9 @@ def why_barred(history, index, lot):
 
 def small_stuck(history):
     """Return a stuck lot of a sound history no part of which, but itself, is one, or None."""
-    table, stuck = table_of(history), _greatest_stuck(history)
-    for index in lot_of(stuck):
+    table, greatest = table_of(history), _greatest_stuck(history)
+    stuck = greatest
+    for index in lot_of(greatest):
         if has_member(stuck, index):
             _, rest = taken_away(table, stuck - (1 << index), 0)
             if rest != 0:

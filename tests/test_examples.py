@@ -4,9 +4,15 @@ import pathlib
 import unittest
 
 import freshtold
+from freshtold.alike import idle_answers, parted_by, same_weavings
 from freshtold.books import book_paper, is_book_paper, is_sound
 from freshtold.calls import ahead_of, asked_calls, behind_of, is_ahead, lost_calls, new_calls, unheard_calls
 from freshtold.claims import hold_of, holds_always, holds_in, is_hold, surely_ahead, weaving_against
+from freshtold.conditions import (answer_conditions, can_all_hold, conditions, follows, least_claims,
+                                  needless)
+from freshtold.knownahead import ever_ahead, is_known_paper, known_ahead, known_paper, sure_ahead, weaving_where
+from freshtold.leastlots import (earliest_place, greatest_weaving, least_lots, least_weaving, weaving_from,
+                                 weavings_many)
 from freshtold.misfits import is_misfit, is_stuck, misfit, small_stuck, why_barred
 from freshtold.peeling import fits, is_barred, may_go, peeled, weaving_of
 from freshtold.reader import read_history, read_plan
@@ -145,6 +151,57 @@ class TestStage5(unittest.TestCase):
         shown = [hold_of(HISTORY, (0, (1,))), weaving_against(HISTORY, (0, (1,))),
                  weaving_against(HISTORY, (3, (0, 1)))]
         self.assertEqual(shown, [None, (3, 1, 0, 2), None])
+
+    def test_least_lots(self):
+        shown = [weavings_many(HISTORY), least_weaving(HISTORY), greatest_weaving(HISTORY),
+                 weaving_from(HISTORY, (3, 1)), weaving_from(HISTORY, (1,))]
+        self.assertEqual(shown, [3, (0, 3, 1, 2), (3, 1, 0, 2), (3, 1, 0, 2), None])
+        shown = [least_lots(HISTORY, 3), least_lots(HISTORY, 0), least_lots(HISTORY, 2), earliest_place(HISTORY, 2),
+                 earliest_place(HISTORY, 1)]
+        self.assertEqual(shown, [[(1,), (2,)], [(2,)], [], 3, 1])
+
+
+class TestStage6(unittest.TestCase):
+    soon = ((3, 2), CALLS[:3] + ((("ask", BOTH), 0, 0, "open"),))
+
+    def test_conditions(self):
+        self.assertEqual([conditions(HISTORY), answer_conditions(HISTORY, 2), answer_conditions(HISTORY, 0)],
+                         [[(0, (2,)), (1, (2,)), (3, (1,))], [(0, (2,)), (1, (2,))], []])
+        shown = [conditions(self.soon)[2:], needless(4, conditions(self.soon)),
+                 least_claims(4, conditions(self.soon)) == conditions(HISTORY)]
+        self.assertEqual(shown, [[(3, (1,)), (3, (2,))], [(3, (2,))], True])
+        shown = [follows(3, [(0, (1,)), (1, (2,))], (0, (2,))), follows(3, [(0, (1, 2))], (0, (2,))),
+                 follows(2, [(0, (1,)), (1, (0,))], (0, (1,)))]
+        self.assertEqual(shown, [True, False, True])
+
+    def test_alike(self):
+        shown = [same_weavings(HISTORY, self.soon), parted_by(HISTORY, self.soon), idle_answers(HISTORY),
+                 idle_answers(self.soon)]
+        self.assertEqual(shown, [True, None, (), (3,)])
+        told = ((3, 2), CALLS[:3] + ((("ask", BOTH), 0, 9, 2),))
+        shown = [same_weavings(HISTORY, told), parted_by(HISTORY, told)[0],
+                 can_all_hold(4, conditions(HISTORY) + conditions(told))]
+        self.assertEqual(shown, [False, 0, False])
+
+
+class TestStage7(unittest.TestCase):
+    def test_known_ahead(self):
+        shown = [known_ahead(HISTORY, 2, OTHER), known_ahead(HISTORY, 1, ONE), known_ahead(HISTORY, 3, (2, 2)),
+                 known_ahead(HISTORY, 0, ONE)]
+        self.assertEqual(shown, ['given', 'either', 'open', 'open'])
+        shown = [sure_ahead(HISTORY, 2), sure_ahead(HISTORY, 1), ever_ahead(HISTORY, 1),
+                 weaving_where(HISTORY, 2, OTHER, False)]
+        self.assertEqual(shown, [(0, 1), (), (0,), None])
+
+    def test_knowing_papers(self):
+        self.assertEqual([known_paper(HISTORY, 1, ONE), known_paper(HISTORY, 0, ONE), known_ahead(HISTORY, 3, (0, 0))],
+                         [None, ('own',), 'given'])
+        shown = [is_known_paper(HISTORY, 2, OTHER, ("given", {1: (1, 2), 0: (0, 2)})),
+                 is_known_paper(HISTORY, 2, OTHER, ("given", {0: (0, 2)}))]
+        self.assertEqual(shown, [True, False])
+        shown = [is_known_paper(HISTORY, 3, BOTH, ("last", (1, 3))),
+                 is_known_paper(HISTORY, 3, OTHER, ("last", (0, 1)))]
+        self.assertEqual(shown, [True, False])
 
 
 class TestPackage(unittest.TestCase):
