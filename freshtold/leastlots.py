@@ -24,7 +24,7 @@ def least_lots(history, index):
     found = []
     for many in range(1, len(table)):
         for lot in combinations(others, many):
-            if not _has_part(lot, found) and greatest_hold(table, (index, lot)) is not None:
+            if not has_part(lot, found) and greatest_hold(table, (index, lot)) is not None:
                 found.append(lot)
     return sorted(found)
 
@@ -71,7 +71,7 @@ def weavings_many(history):
     return ways[0]
 
 
-def _has_part(lot, lots):
+def has_part(lot, lots):
     """Tell whether all members of one of some lots are in a lot."""
     return any([all([index in lot for index in part]) for part in lots])
 

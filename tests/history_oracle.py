@@ -1,7 +1,7 @@
 """What [2], [7], [8] and the papers say of whole histories, told again: all lots, combinations and orders are tried."""
 
 from functools import lru_cache
-from itertools import combinations, permutations
+from itertools import combinations, permutations, product
 
 from tests import oracle
 
@@ -228,3 +228,76 @@ def given_ahead(history, order, index, one):
     ahead = order[:order.index(index)]
     told = tuple(history[1][other][0][1:] for other in ahead if history[1][other][3] == "new")
     return one in given(history[0], told)
+
+
+def known(history, index, one):
+    """What is known of a sum ahead of a call, told by all weavings."""
+    given_so = [given_ahead(history, weaving, index, one) for weaving in weavings(history)]
+    return "given" if all(given_so) else "either" if any(given_so) else "open"
+
+
+def probed(history, moment):
+    """The history with one more call, an ask of the EMPTY sum at a moment."""
+    return (history[0], history[1] + ((("ask", (0,) * history[0][1]), moment, moment, 0),))
+
+
+def unanswered(history, word, is_lost):
+    """The indexes of the deeds of a sort that are LOST, or are without an answer but have an end."""
+    return tuple(index for index, (deed, _, end, answer) in enumerate(history[1])
+                 if deed[0] == word and answer is None and (end is None) == is_lost)
+
+
+def lost_lots(history):
+    """All LOTS of LOST tells, ascending."""
+    return sorted(lots(unanswered(history, "tell", True)))
+
+
+def answered(history, answers):
+    """The history of the calls that have an answer, their own one or one in a dict."""
+    calls = [call[:3] + (answers.get(index, call[3]),) for index, call in enumerate(history[1])]
+    return (history[0], tuple(call for call in calls if call[3] is not None))
+
+
+def filled(history, taken, answers):
+    """The history with a lot of LOST tells taken, and with answers of the UNHEARD asks: all of them, or ()."""
+    asks = unanswered(history, "ask", False) if answers else ()
+    return answered(history, dict.fromkeys(taken, "new") | dict(zip(asks, answers, strict=True)))
+
+
+@lru_cache(4000)
+def fillings(history):
+    """All FILLINGS, in the order of [29]: all lots and all answers are tried."""
+    found, many = [], len(unanswered(history, "ask", False))
+    for taken in lost_lots(history):
+        for answers in product([*range(history[0][0]), "open"], repeat=many):
+            if weavings(filled(history, taken, answers)):
+                found.append((taken, answers))
+    return found
+
+
+def a_filling(history, thing):
+    """Whether any value is a FILLING."""
+    if not oracle.a_tuple(thing, 2) or not oracle.a_lot(len(history[1]), thing[0]):
+        return False
+    if not set(thing[0]) <= set(unanswered(history, "tell", True)):
+        return False
+    if not oracle.a_tuple(thing[1], len(unanswered(history, "ask", False))):
+        return False
+    if not all(oracle.a_number(history[0][0], answer) or (type(answer) is str and answer == "open")
+               for answer in thing[1]):
+        return False
+    return len(weavings(filled(history, *thing))) > 0
+
+
+def taken_lots(history):
+    """All LOTS of LOST tells that CAN BE TAKEN."""
+    return [lot for lot in lost_lots(history) if weavings(filled(history, lot, ()))]
+
+
+def a_loss_paper(history, thing):
+    """Whether any value is a LOSS PAPER."""
+    if type(thing) is not dict or not all(oracle.a_lot(len(history[1]), key) for key in thing):
+        return False
+    if sorted(thing) != lost_lots(history):
+        return False
+    return all(a_misfit(filled(history, lot, ()), paper) for lot, paper in thing.items())

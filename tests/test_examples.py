@@ -10,15 +10,20 @@ from freshtold.calls import ahead_of, asked_calls, behind_of, is_ahead, lost_cal
 from freshtold.claims import hold_of, holds_always, holds_in, is_hold, surely_ahead, weaving_against
 from freshtold.conditions import (answer_conditions, can_all_hold, conditions, follows, least_claims,
                                   needless)
+from freshtold.fillings import filled, fillings, heard, is_filling
 from freshtold.knownahead import ever_ahead, is_known_paper, known_ahead, known_paper, sure_ahead, weaving_where
 from freshtold.leastlots import (earliest_place, greatest_weaving, least_lots, least_weaving, weaving_from,
                                  weavings_many)
+from freshtold.losttells import can_take, fits_somehow, is_loss_paper, least_taken, loss_paper, lots_taken, must_take
 from freshtold.misfits import is_misfit, is_stuck, misfit, small_stuck, why_barred
+from freshtold.moments import given_from, known_at, open_until, probed, sure_at
 from freshtold.peeling import fits, is_barred, may_go, peeled, weaving_of
 from freshtold.reader import read_history, read_plan
 from freshtold.reasons import leaners, new_rows, number_of, reason_of, reasons
 from freshtold.stores import Store
 from freshtold.sums import added, are_independent, comes_to, dependence, given_by, made_by, strife_of, times, world_of
+from freshtold.sureness import (can_answer, is_known_by, is_open_by, known_by, never_new, order_for, rank_of,
+                                sure_answer, sure_new)
 from freshtold.texts import show_history, show_plan
 from freshtold.weavings import (answers_by, early_order, first_wrong, is_order, is_weaving, late_order, run_by,
                                 store_at)
@@ -202,6 +207,69 @@ class TestStage7(unittest.TestCase):
         shown = [is_known_paper(HISTORY, 3, BOTH, ("last", (1, 3))),
                  is_known_paper(HISTORY, 3, OTHER, ("last", (0, 1)))]
         self.assertEqual(shown, [True, False])
+
+
+    def test_moments(self):
+        shown = [is_known_paper(HISTORY, 3, BOTH, ("last", (1, 3))),
+                 is_known_paper(HISTORY, 3, OTHER, ("last", (0, 1))), probed(HISTORY, 4)[1][4]]
+        self.assertEqual(shown, [True, False, (('ask', (0, 0)), 4, 4, 0)])
+        shown = [known_at(HISTORY, -1, ONE), known_at(HISTORY, 0, ONE), known_at(HISTORY, 4, ONE), sure_at(HISTORY, 4),
+                 sure_at(HISTORY, 5)]
+        self.assertEqual(shown, ['open', 'either', 'given', (0,), (0, 1)])
+        shown = [given_from(HISTORY, OTHER), open_until(HISTORY, OTHER), given_from(HISTORY, (0, 0)),
+                 open_until(HISTORY, ONE)]
+        self.assertEqual(shown, [('from', 5), ('until', 0), ('always',), ('until', -1)])
+
+
+class TestStage8(unittest.TestCase):
+    calls = ((("tell", (1,), 1), 0, None, None), (("ask", (1,)), 1, 2, None), (("ask", (1,)), 4, 5, None))
+    history = ((2, 1), calls)
+
+    def test_fillings(self):
+        history = self.history
+        self.assertEqual([fillings(history), heard(history, 1), lots_taken(history)],
+                         [[((), ('open', 'open')), ((0,), (1, 1)), ((0,), ('open', 1)), ((0,), ('open', 'open'))],
+                          [1, 'open'], [(), (0,)]])
+        shown = [is_filling(history, ((0,), (1, "open"))), is_filling(history, ((0,), (0, 1))),
+                 is_filling(history, ((0,), ["open", 1]))]
+        self.assertEqual(shown, [False, False, False])
+        self.assertEqual(filled(history, (0,), (1, 1)), ((2, 1), (
+            (('tell', (1,), 1), 0, None, 'new'), (('ask', (1,)), 1, 2, 1), (('ask', (1,)), 4, 5, 1))))
+
+    def test_lost_tells(self):
+        seen = ((2, 1), (self.calls[0], self.calls[1], (("ask", (1,)), 4, 5, 1)))
+        shown = [must_take(seen), can_take(seen), least_taken(seen), heard(seen, 1), must_take(self.history)]
+        self.assertEqual(shown, [(0,), (0,), [(0,)], [1, 'open'], ()])
+        odd = ((2, 1), (self.calls[0], (("ask", (1,)), 1, 2, 0)))
+        shown = [fits_somehow(odd), must_take(odd), fits_somehow(self.history), loss_paper(self.history),
+                 sorted(loss_paper(odd))]
+        self.assertEqual(shown, [False, None, True, None, [(), (0,)]])
+        papers = {(0,): ("book", ("gainsaid", 1, {0: 1})), (): ("book", ("without", 0, (1,)))}
+        self.assertEqual([is_loss_paper(odd, papers), is_loss_paper(odd, {(): papers[()]}), lots_taken(odd)],
+                         [True, False, []])
+
+
+class TestStage9(unittest.TestCase):
+    calls = ((("tell", ONE, 1), 0, 2), (("tell", BOTH, 0), 1, 6), (("tell", OTHER, 2), 3, 7), (("ask", BOTH), 4, 5),
+             (("tell", ONE, 1), 8, 9))
+    plan = ((3, 2), calls)
+
+    def test_sure_answers(self):
+        plan = self.plan
+        shown = [rank_of(plan), [can_answer(plan, index) for index in range(5)], sure_answer(plan, 4),
+                 sure_answer(plan, 3)]
+        self.assertEqual(shown, [2, [['new'], ['known', 'new'], ['known', 'new'], [0, 'open'], ['known']], 'known',
+                                 None])
+        shown = [sure_new(plan), never_new(plan), is_known_by(plan, 4, known_by(plan, 4)), known_by(plan, 3),
+                 is_known_by(plan, 4, {1: 1, 2: 2})]
+        self.assertEqual(shown, [(0,), (4,), True, None, True])
+        shown = [is_open_by(plan, 0, (1, 2)), is_open_by(plan, 0, (1, 0)), order_for(plan, 0, "known"),
+                 order_for(plan, 3, 1)]
+        self.assertEqual(shown, [True, False, None, None])
+
+    def test_open_by(self):
+        early = ((3, 2), self.calls[:1] + ((("ask", BOTH), 1, 5),))
+        self.assertEqual([is_open_by(early, 1, (0, 1)), is_open_by(early, 1, (0, 0))], [True, False])
 
 
 class TestPackage(unittest.TestCase):

@@ -71,9 +71,17 @@ def near_dicts(thing):
     for key, worth in thing.items():
         others = {other: thing[other] for other in thing if other != key}
         found += [{**thing, key: other} for other in all_near(worth)] + [others]
-        for other in [None, True, False, -1, 0, 1, 2, 3, 4, 10 ** 39, "", "0", (), (0,), key + 1, str(key), (key,)]:
+        for other in [None, True, False, -1, 0, 1, 2, 3, 4, 10 ** 39, "", "0", (), (0,), (0, 1), str(key), (key,),
+                      *keys_beside(key)]:
             found += [{**others, other: worth}, {**thing, other: worth}]
     return found
+
+
+def keys_beside(key):
+    """What may stand in the place of a key that is an integer or a tuple of integers."""
+    if type(key) is int:
+        return [key + 1]
+    return [key + (0,), key + (9,), key[:-1], key[::-1], tuple(bool(part) for part in key)]
 
 
 def beside(thing):
