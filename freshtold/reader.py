@@ -26,6 +26,24 @@ def read_plan(text):
     return (house, calls)
 
 
+def deed_of(words):
+    """Return the deed that words, one at least, show; if they show none, what is no deed of any house."""
+    worths = tuple([worth_of(word) for word in words])
+    if words[-2:-1] == ["="]:
+        return (words[0], worths[1:-2], worths[-1])
+    return (words[0], worths[1:])
+
+
+def worth_of(word):
+    """Return the number that a word shows as Python does, in so few digits as may stand; otherwise the word itself."""
+    digits = word[1:] if word.startswith("-") else word
+    # There are other digits than the ten of ASCII, and int() reads them.
+    if not digits.isascii() or not digits.isdigit() or len(digits) > MOST_DIGITS:
+        return word
+    number = int(word)
+    return number if str(number) == word else word
+
+
 def _read(text, call_of):
     """Return (house, calls) of a text; call_of tells what the words of a call's line show."""
     lines = text.split("\n")
@@ -54,7 +72,7 @@ def _words_of(line):
 
 def _house_of(words):
     """Return the house that the words of a line show, or None."""
-    house = tuple([_worth_of(word) for word in words[1:]])
+    house = tuple([worth_of(word) for word in words[1:]])
     if words[0] != "house" or not is_house(house):
         return None
     return house
@@ -65,9 +83,9 @@ def _call_of(house, words):
     if len(words) < 5 or words[-4] != "at":
         return None
     begin, end, answer = words[-3:]
-    end = None if end == "never" else _worth_of(end)
-    answer = None if answer == "-" else _worth_of(answer)
-    call = (_deed_of(words[:-4]), _worth_of(begin), end, answer)
+    end = None if end == "never" else worth_of(end)
+    answer = None if answer == "-" else worth_of(answer)
+    call = (deed_of(words[:-4]), worth_of(begin), end, answer)
     if not is_call(house, call):
         return None
     return call
@@ -80,21 +98,3 @@ def _planned_of(house, words):
     if call is None or call[2] is None:
         return None
     return call[:3]
-
-
-def _deed_of(words):
-    """Return the deed that words, one at least, show; if they show none, what is no deed of any house."""
-    worths = tuple([_worth_of(word) for word in words])
-    if words[-2:-1] == ["="]:
-        return (words[0], worths[1:-2], worths[-1])
-    return (words[0], worths[1:])
-
-
-def _worth_of(word):
-    """Return the number that a word shows as Python does, in so few digits as may stand; otherwise the word itself."""
-    digits = word[1:] if word.startswith("-") else word
-    # There are other digits than the ten of ASCII, and int() reads them.
-    if not digits.isascii() or not digits.isdigit() or len(digits) > MOST_DIGITS:
-        return word
-    number = int(word)
-    return number if str(number) == word else word

@@ -10,21 +10,26 @@ from freshtold.calls import ahead_of, asked_calls, behind_of, is_ahead, lost_cal
 from freshtold.claims import hold_of, holds_always, holds_in, is_hold, surely_ahead, weaving_against
 from freshtold.conditions import (answer_conditions, can_all_hold, conditions, follows, least_claims,
                                   needless)
+from freshtold.desk import Desk
 from freshtold.fillings import filled, fillings, heard, is_filling
 from freshtold.knownahead import ever_ahead, is_known_paper, known_ahead, known_paper, sure_ahead, weaving_where
 from freshtold.leastlots import (earliest_place, greatest_weaving, least_lots, least_weaving, weaving_from,
                                  weavings_many)
+from freshtold.leftout import beside, idle_calls, is_turning, turned, turned_back, without
 from freshtold.losttells import can_take, fits_somehow, is_loss_paper, least_taken, loss_paper, lots_taken, must_take
 from freshtold.misfits import is_misfit, is_stuck, misfit, small_stuck, why_barred
 from freshtold.moments import given_from, known_at, open_until, probed, sure_at
+from freshtold.newlots import can_be_new, gone_on, new_lots, waits_for
 from freshtold.peeling import fits, is_barred, may_go, peeled, weaving_of
 from freshtold.reader import read_history, read_plan
 from freshtold.reasons import leaners, new_rows, number_of, reason_of, reasons
+from freshtold.slack import slack, slack_paper, widened
 from freshtold.stores import Store
 from freshtold.sums import added, are_independent, comes_to, dependence, given_by, made_by, strife_of, times, world_of
 from freshtold.sureness import (can_answer, is_known_by, is_open_by, known_by, never_new, order_for, rank_of,
                                 sure_answer, sure_new)
 from freshtold.texts import show_history, show_plan
+from freshtold.watch import Watch
 from freshtold.weavings import (answers_by, early_order, first_wrong, is_order, is_weaving, late_order, run_by,
                                 store_at)
 
@@ -267,9 +272,56 @@ class TestStage9(unittest.TestCase):
                  order_for(plan, 3, 1)]
         self.assertEqual(shown, [True, False, None, None])
 
-    def test_open_by(self):
+    def test_new_lots(self):
         early = ((3, 2), self.calls[:1] + ((("ask", BOTH), 1, 5),))
-        self.assertEqual([is_open_by(early, 1, (0, 1)), is_open_by(early, 1, (0, 0))], [True, False])
+        shown = [is_open_by(early, 1, (0, 1)), is_open_by(early, 1, (0, 0)), waits_for(early, 1),
+                 waits_for(self.plan, 3)]
+        self.assertEqual(shown, [True, False, [], [(1,), (2,)]])
+        shown = [new_lots(self.plan), can_be_new(self.plan, (1, 2)), gone_on(self.plan, (0,)),
+                 gone_on(self.plan, (0, 1))]
+        self.assertEqual(shown, [[(0, 1), (0, 2)], False, ((0, 3), (1, 2, 4)), ((0, 1, 2, 3, 4), ())])
+
+
+class TestStage10(unittest.TestCase):
+    late = ((3, 2), CALLS[:3] + ((("ask", BOTH), 5, 9, "open"),))
+
+    def test_slack(self):
+        shown = [slack(HISTORY), slack(self.late), widened(self.late, 1)[1][3], slack_paper(HISTORY),
+                 slack_paper(self.late)]
+        self.assertEqual(shown, [0, 1, (('ask', (1, 1)), 4, 10, 'open'), None, ('stuck', (0, 1, 3))])
+
+    def test_left_out(self):
+        nothing = ((2, 1), ((("ask", (0,)), 0, 1, "open"),))
+        shown = [slack(nothing), slack_paper(nothing), idle_calls(HISTORY),
+                 without(HISTORY, (2, 3)) == ((3, 2), CALLS[:2])]
+        self.assertEqual(shown, [None, ('stuck', (0,)), (2, 3), True])
+        turning = ((1, 1), (0, 1))
+        shown = [[call[0][1] for call in turned(HISTORY, turning)[1]], turned_back((3, 2), turning),
+                 is_turning((3, 2), ((1, 1), (2, 2)))]
+        self.assertEqual(shown, [[(1, 1), (1, 2), (0, 1), (1, 2)], ((1, 2), (0, 1)), False])
+        pair = beside(((3, 1), ((("tell", (2,), 1), 4, 7, "new"),)), HISTORY)
+        self.assertEqual([pair[0], pair[1][0][0], pair[1][1]],
+                         [(3, 3), ('tell', (2, 0, 0), 1), (('tell', (0, 1, 0), 1), 0, 3, 'new')])
+
+
+class TestStage11(unittest.TestCase):
+    def test_watch(self):
+        watch, row = Watch((2, 1)), ("tell", (1,), 1)
+        shown = [watch.begin(row), watch.begin(("ask", (1,))), watch.known_now((1,)), watch.finish(1, 1),
+                 watch.known_now((1,)), watch.under_way()]
+        self.assertEqual(shown, [0, 1, 'either', None, 'given', (0,)])
+        shown = [watch.events(), watch.still_fits(), watch.begin(("ask", (1,))), watch.finish(2, "open"),
+                 watch.still_fits(), watch.wrong_since()]
+        self.assertEqual(shown, [3, True, 2, None, False, 4])
+        twin = watch.twin()
+        shown = [twin == watch, twin.lose(0), twin == watch, twin.history() == watch.history(), watch.history()[1][2]]
+        self.assertEqual(shown, [True, None, False, True, (('ask', (1,)), 3, 4, 'open')])
+
+    def test_desk(self):
+        desk = Desk((2, 1))
+        shown = [desk.execute(line) for line in ["begin tell 1 = 1", "begin ask 1", "known 1", "finish 1 open", "way",
+                                                 "fits", "wrong", "known 0"]]
+        self.assertEqual(shown, [['0'], ['1'], ['either'], ['done'], ['0'], ['yes'], ['never'], ['given']])
 
 
 class TestPackage(unittest.TestCase):

@@ -1,7 +1,9 @@
 """Values for the tests: odd ones of every kind, and all that differs from a right one in one part."""
 
+from freshtold.desk import Desk
 from freshtold.errors import NoCommand, NotSound, StoreError, Wrong
 from freshtold.stores import Store
+from freshtold.watch import Watch
 
 LONG_TEXT = "".join(chr(32 + at % 95) for at in range(2999)) + "\n"
 
@@ -32,7 +34,7 @@ def odd_values():
         (0, (0,)), (0, (1,)), (0, (1, 2)), (0, ()), (0, [1]), (1, (0, 1)), (0, 1, 2), (0, 2, 1), (0, 0, 1), [0, 1, 2],
         tuple(range(1000)), list(range(1000)), (0,) * 2900, [[0, 1]] * 900, {at: (at, None) for at in range(700)},
         nested(20), [nested(18), nested(17)], NoCommand(), NotSound([{}, (None,)]), [StoreError()], {"at": Wrong(None)},
-        Store((2, 1)), (Store((3, 2)), ()), {"store": Store((7, 8))},
+        Store((2, 1)), (Store((3, 2)), ()), {"store": Store((7, 8))}, Watch((2, 1)), Desk((2, 1)), [Watch((3, 0))],
     ]
 
 
